@@ -250,22 +250,26 @@ func checkKinds(f api.Func) api.Errno {
 	return api.OK
 }
 
-// dominators tells for each pair of reached blocks whether the first one dominates the second one.
-func dominators(g [][]int, reached []int) [api.MaxBlocks][api.MaxBlocks]bool {
-	var above [api.MaxBlocks][api.MaxBlocks]bool
-	for _, a := range reached {
-		for _, b := range reached {
-			above[a][b], _ = flow.Dominates(g, a, b)
-		}
+// dominance asks each pair of reached blocks once at the most.
+type dominance struct {
+	graph [][]int
+	asked [api.MaxBlocks][api.MaxBlocks]bool
+	above [api.MaxBlocks][api.MaxBlocks]bool
+}
+
+// is tells whether a block is reached and dominates another reached one.
+func (d *dominance) is(a, b int) bool {
+	if !d.asked[a][b] {
+		d.asked[a][b] = true
+		d.above[a][b], _ = flow.Dominates(d.graph, a, b)
 	}
-	return above
+	return d.above[a][b]
 }
 
 // checkPlaces looks for an Arg that is not there.
 func checkPlaces(f api.Func) api.Errno {
-	g := graph(f)
-	reached, _ := flow.Reached(g)
-	above := dominators(g, reached)
+	d := dominance{graph: graph(f)}
+	reached, _ := flow.Reached(d.graph)
 	for _, b := range reached {
 		for i, x := range f.Blocks[b] {
 			for k, v := range x.Args {
@@ -273,9 +277,11 @@ func checkPlaces(f api.Func) api.Errno {
 					continue
 				}
 				from, at := where(f, v)
-				there := from == b && at < i || from != b && above[from][b]
+				there := from == b && at < i
 				if x.Op == api.Phi {
-					there = !slices.Contains(reached, x.To[k]) || above[from][x.To[k]]
+					there = !slices.Contains(reached, x.To[k]) || d.is(from, x.To[k])
+				} else if from != b {
+					there = d.is(from, b)
 				}
 				if !there {
 					return api.ErrState
