@@ -1,14 +1,18 @@
 package term
 
-import "backstay/api"
+import (
+	"backstay/api"
+	"backstay/pool"
+)
 
 // smaller makes a term again, node by node, with fewer nodes where it can.
 type smaller struct {
-	pool
+	*pool.Pool
 }
 
 func (s *smaller) constant(k int) (uint32, bool) {
-	return s.nodes[k].Imm, s.nodes[k].Op == api.Const
+	x := s.Nodes()[k]
+	return x.Imm, x.Op == api.Const
 }
 
 func (s *smaller) is(k int, n uint32) bool {
@@ -19,12 +23,13 @@ func (s *smaller) is(k int, n uint32) bool {
 // node returns the number of a node that means the same as one with these Args. It is one that is there, or one new node.
 func (s *smaller) node(x api.Node, args []int) int {
 	if n, is := s.fold(x, args); is {
-		return s.add(api.Const, x.Width, n, nil)
+		return s.Add(api.Node{Op: api.Const, Width: x.Width, Imm: n})
 	}
 	if k, is := s.drop(x, args); is {
 		return k
 	}
-	return s.add(x.Op, x.Width, x.Imm, args)
+	x.Args = args
+	return s.Add(x)
 }
 
 // fold computes a node all of whose Args are constants.
@@ -32,7 +37,7 @@ func (s *smaller) fold(x api.Node, args []int) (uint32, bool) {
 	if len(args) == 0 {
 		return 0, false
 	}
-	l := make([]uint32, len(s.nodes))
+	l := make([]uint32, len(s.Nodes()))
 	for _, a := range args {
 		n, is := s.constant(a)
 		if !is {
@@ -41,7 +46,7 @@ func (s *smaller) fold(x api.Node, args []int) (uint32, bool) {
 		l[a] = n
 	}
 	x.Args = args
-	return value(s.nodes, x, l, nil), true
+	return value(s.Nodes(), x, l, nil), true
 }
 
 // drop finds the Arg that a node is equal to.
@@ -82,7 +87,7 @@ func Simplify(t []api.Node) ([]api.Node, api.Errno) {
 	if e != api.OK {
 		return nil, e
 	}
-	s := &smaller{*newPool()}
+	s := &smaller{pool.New()}
 	var places []int
 	for _, x := range u {
 		var args []int
@@ -92,5 +97,5 @@ func Simplify(t []api.Node) ([]api.Node, api.Errno) {
 		k := s.node(x, args)
 		places = append(places, k)
 	}
-	return share(s.nodes, places[len(places)-1]), api.OK
+	return pool.Share(s.Nodes(), places[len(places)-1]), api.OK
 }

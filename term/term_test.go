@@ -7,6 +7,7 @@ import (
 	"backstay/api"
 	"backstay/bits"
 	"backstay/fuzz"
+	"backstay/pool"
 	"backstay/term"
 )
 
@@ -25,12 +26,6 @@ func c(n uint32, w int) api.Node {
 // increment is v0 + 1 of width 8, with a node that is not needed.
 func increment() []api.Node {
 	return []api.Node{v(1, 4), v(0, 8), c(1, 8), c(1, 8), node(api.Add, 8, 0, 1, 3)}
-}
-
-func same(t, u []api.Node) bool {
-	return slices.EqualFunc(t, u, func(x, y api.Node) bool {
-		return x.Op == y.Op && x.Width == y.Width && x.Flags == y.Flags && x.Imm == y.Imm && slices.Equal(x.Args, y.Args)
-	})
 }
 
 func numbers(seed int) []int {
@@ -164,10 +159,10 @@ func TestExamples(t *testing.T) {
 	if l, e := term.Values(u, []uint32{255, 3, 0, 0}); !slices.Equal(l, []uint32{3, 255, 1, 1, 0}) || e != api.OK {
 		t.Error(l, e)
 	}
-	if s, _ := term.Share(u); !same(s, []api.Node{v(0, 8), c(1, 8), node(api.Add, 8, 0, 0, 1)}) {
+	if s, _ := term.Share(u); !pool.Same(s, []api.Node{v(0, 8), c(1, 8), node(api.Add, 8, 0, 0, 1)}) {
 		t.Error(s)
 	}
-	if s, _ := term.Part(u, 3); !same(s, []api.Node{c(1, 8)}) {
+	if s, _ := term.Part(u, 3); !pool.Same(s, []api.Node{c(1, 8)}) {
 		t.Error(s)
 	}
 	divided := []api.Node{v(0, 4), node(api.UDiv, 4, 0, 0, 0)}
@@ -203,10 +198,10 @@ func TestMany(t *testing.T) {
 		if term.Validate(u) != api.OK || e != api.OK || len(u) > 20 {
 			t.Fatal(seed, u, e)
 		}
-		if r, _ := term.Share(s); !same(r, s) {
+		if r, _ := term.Share(s); !pool.Same(r, s) {
 			t.Error(seed, s, r)
 		}
-		if p, _ := term.Part(u, len(u)-1); !same(p, s) {
+		if p, _ := term.Part(u, len(u)-1); !pool.Same(p, s) {
 			t.Error(seed, s, p)
 		}
 		if is, _ := term.Same(u, s); !is {
@@ -250,7 +245,7 @@ func checkPut(t *testing.T, u, other []api.Node, env []uint32) {
 		if m, _ := term.Eval(r, env); f == api.OK && g == api.OK && m != want {
 			t.Error(u, i, other, env, m, want)
 		}
-		if s, _ := term.Share(r); !same(r, s) {
+		if s, _ := term.Share(r); !pool.Same(r, s) {
 			t.Error(r, s)
 		}
 	}
@@ -260,7 +255,7 @@ func checkPut(t *testing.T, u, other []api.Node, env []uint32) {
 func TestJoin(t *testing.T) {
 	x, y := []api.Node{v(0, 8)}, []api.Node{v(0, 8), c(2, 8), node(api.Mul, 8, 0, 0, 1)}
 	r, e := term.Join(api.Add, 8, 0, [][]api.Node{x, y})
-	if !same(r, []api.Node{v(0, 8), c(2, 8), node(api.Mul, 8, 0, 0, 1), node(api.Add, 8, 0, 0, 2)}) || e != api.OK {
+	if !pool.Same(r, []api.Node{v(0, 8), c(2, 8), node(api.Mul, 8, 0, 0, 1), node(api.Add, 8, 0, 0, 2)}) || e != api.OK {
 		t.Error(r, e)
 	}
 	for i, z := range []struct {
@@ -293,12 +288,12 @@ func TestJoin(t *testing.T) {
 // P7.5
 func TestSimplify(t *testing.T) {
 	u := []api.Node{v(0, 8), c(3, 8), c(253, 8), node(api.Add, 8, 0, 1, 2), node(api.Add, 8, 0, 0, 3)}
-	if r, e := term.Simplify(u); !same(r, []api.Node{v(0, 8)}) || e != api.OK {
+	if r, e := term.Simplify(u); !pool.Same(r, []api.Node{v(0, 8)}) || e != api.OK {
 		t.Error(r, e)
 	}
 	for op := api.Add; op <= api.AShr; op++ {
 		r, _ := term.Simplify([]api.Node{c(200, 8), c(9, 8), node(op, 8, 0, 0, 1)})
-		if n, _ := bits.Total(op, 8, 200, 9); !same(r, []api.Node{c(n, 8)}) {
+		if n, _ := bits.Total(op, 8, 200, 9); !pool.Same(r, []api.Node{c(n, 8)}) {
 			t.Error(op, r)
 		}
 	}
