@@ -143,7 +143,7 @@ func (m *maker) phis(before []int) {
 	if len(before) == 0 {
 		return
 	}
-	for range m.take(3) {
+	for range m.take(4) - 1 {
 		v := m.known[m.take(len(m.known))]
 		args := slices.Repeat([]int{v}, len(before))
 		m.put(api.Inst{Op: api.Phi, Width: m.kind(v), Args: args, To: slices.Clone(before)})
@@ -192,7 +192,7 @@ func (m *maker) block(b, left int) {
 	m.now = b
 	before, _ := flow.Before(m.graph, b)
 	m.phis(before)
-	for range m.take(5) {
+	for range m.take(8) - 2 {
 		if m.size()+6+4*left > api.MaxInsts {
 			break
 		}
