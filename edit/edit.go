@@ -5,7 +5,6 @@ import (
 	"slices"
 
 	"backstay/api"
-	"backstay/flow"
 )
 
 // Param is the Op of a parameter.
@@ -210,27 +209,23 @@ func (f *Func) Redirect(old, fresh *Block) {
 	}
 }
 
-// Graph returns the graph of a function.
-func (f *Func) Graph() [][]int {
-	f.number()
-	g := make([][]int, len(f.Blocks))
-	for i, b := range f.Blocks {
+// Prune leaves out the blocks that are not reached; there may be more blocks than a valid function has.
+func (f *Func) Prune() {
+	reached := map[*Block]bool{}
+	var visit func(b *Block)
+	visit = func(b *Block) {
+		if reached[b] {
+			return
+		}
+		reached[b] = true
 		for _, to := range b.Last().To {
-			g[i] = append(g[i], to.number)
+			visit(to)
 		}
 	}
-	return g
-}
-
-// Prune leaves out the blocks that are not reached.
-func (f *Func) Prune() {
-	reached, e := flow.Reached(f.Graph())
-	if e != api.OK {
-		return
-	}
+	visit(f.Blocks[0])
 	var left []*Block
-	for i, b := range f.Blocks {
-		if slices.Contains(reached, i) {
+	for _, b := range f.Blocks {
+		if reached[b] {
 			left = append(left, b)
 			continue
 		}
@@ -248,4 +243,21 @@ func (f *Func) Size() int {
 		n += len(b.Insts)
 	}
 	return n
+}
+
+// Dominates reports whether each way from the entry to b has a in it.
+func (f *Func) Dominates(a, b *Block) bool {
+	seen := map[*Block]bool{a: true}
+	var visit func(c *Block)
+	visit = func(c *Block) {
+		if seen[c] {
+			return
+		}
+		seen[c] = true
+		for _, to := range c.Last().To {
+			visit(to)
+		}
+	}
+	visit(f.Blocks[0])
+	return a == b || !seen[b]
 }
