@@ -321,7 +321,11 @@ func TestMany(t *testing.T) {
 			}
 		}
 		g, e := pass.Clean(f)
-		if e != api.OK || !isBare(g) {
+		row := f
+		for _, name := range []string{"fold", "number", "dead", "thread", "merge", "dead"} {
+			row, _ = pass.Apply(row, name)
+		}
+		if e != api.OK || !isBare(g) || !ir.Same(g, row) {
 			t.Error(seed, e)
 		}
 		keeps(t, "clean", f, g)
