@@ -46,25 +46,37 @@ func drop(f *edit.Func, b *edit.Block, x *edit.Inst, way int) bool {
 // mostWays is how many ways there are to take an instruction out.
 const mostWays = 4
 
-// shrink tries each way for each instruction, the last one first, and keeps what does not change the outcomes.
-func shrink(f api.Func, in api.Input, want []api.Outcome) api.Func {
-	for b := len(f.Blocks) - 1; b >= 0; b-- {
-		for i := len(f.Blocks[b]) - 1; i >= 0; i-- {
-			for way := range mostWays {
-				g := edit.Open(f)
-				if !drop(g, g.Blocks[b], g.Blocks[b].Insts[i], way) {
-					continue
-				}
-				if h := g.Close(); ir.Validate(h) == api.OK && sure(h, in, want) {
-					f = h
-					break
-				}
-			}
-			if b >= len(f.Blocks) || i > len(f.Blocks[b]) {
-				break
-			}
+// locate returns the block of an instruction, and its place there, where all are counted block after block.
+func locate(f api.Func, n int) (int, int) {
+	b := 0
+	for n >= len(f.Blocks[b]) {
+		n -= len(f.Blocks[b])
+		b++
+	}
+	return b, n
+}
+
+// without takes an instruction out in the first way that does not change the outcomes; it returns the function as it is if there is none.
+func without(f api.Func, n int, in api.Input, want []api.Outcome) api.Func {
+	b, i := locate(f, n)
+	for way := range mostWays {
+		g := edit.Open(f)
+		if !drop(g, g.Blocks[b], g.Blocks[b].Insts[i], way) {
+			continue
 		}
-		b = min(b, len(f.Blocks))
+		if h := g.Close(); ir.Validate(h) == api.OK && sure(h, in, want) {
+			return h
+		}
+	}
+	return f
+}
+
+// shrink tries all instructions, the last one first.
+func shrink(f api.Func, in api.Input, want []api.Outcome) api.Func {
+	for n := size(f) - 1; n >= 0; n-- {
+		if n < size(f) {
+			f = without(f, n, in, want)
+		}
 	}
 	return f
 }
