@@ -2,6 +2,7 @@ package loop_test
 
 import (
 	"slices"
+	"strconv"
 	"strings"
 	"testing"
 
@@ -386,5 +387,69 @@ func TestManyChanges(t *testing.T) {
 	}
 	if done[0] < 50 || done[1] < 5 {
 		t.Error("too few", done)
+	}
+}
+
+// counter is a loop that counts, sums up in one of its two arms, and is looked at behind.
+func counter(r *random) string {
+	w := []int{2, 3, 4, 8}[r.next(4)]
+	word := func() string { return strconv.Itoa(r.next(1 << w)) }
+	product := []string{"7 5", "5 7", "7 7", "8 5"}[r.next(4)]
+	sum := []string{"7 3", "3 7"}[r.next(2)]
+	s := "func 1 W : W :\n0:\n2 = const W #" + word() + "\n3 = const W #" + word() + "\n4 = const W #" + word() + "\n5 = const W #" + word() + "\njump @1\n" +
+		"1:\n7 = phi W 2 16 @0 @4\n8 = phi W 1 15 @0 @4\n9 = cmp 1 #" + strconv.Itoa(r.next(10)) + " 7 4\nbranch 9 @2 @5\n" +
+		"2:\n11 = mul W " + product + "\nbranch 0 @3 @4\n" +
+		"3:\n13 = add W 8 11\njump @4\n" +
+		"4:\n15 = phi W 8 13 @2 @3\n16 = add W " + sum + "\njump @1\n" +
+		"5:\n18 = sub W 8 7\n19 = xor W 18 7\nret 19\n"
+	return strings.ReplaceAll(s, "W", strconv.Itoa(w))
+}
+
+// P16.3 and P16.4 for loops that count.
+func TestCounters(t *testing.T) {
+	counted, reduced, longer := 0, 0, 0
+	for seed := range 1500 {
+		f := parse(t, counter(&random{seed}))
+		n, is, e := loop.Counted(f, 1)
+		if e != api.OK {
+			t.Fatal(seed, e)
+		}
+		inputs, _ := fuzz.Inputs(f, 4)
+		for _, in := range inputs {
+			out, _, _ := run.Run(f, in, nil)
+			trace, _ := run.Trace(f, in, nil)
+			if out.Kind == api.Done && (!is || count(trace, 1) != n+1) {
+				t.Error(seed, n, is, trace)
+			}
+			if is && n < 20 {
+				counted++
+				if out.Kind != api.Done {
+					t.Error(seed, n, out)
+				}
+			}
+		}
+		g, e := loop.Reduce(f)
+		if e != api.OK {
+			t.Error(seed, e)
+		}
+		same(t, "reduce", f, g, false)
+		if !ir.Same(f, g) {
+			reduced++
+		}
+		p, e := loop.Peel(f, 1)
+		if e == api.OK && same(t, "peel", f, p, false) {
+			longer++
+		}
+		u, is, e := loop.Unswitch(f, 1)
+		if !is || e != api.OK {
+			t.Error(seed, is, e)
+		}
+		same(t, "unswitch", f, u, true)
+		if again, e := loop.Peel(u, flowHeads(u)[0]); e == api.OK {
+			same(t, "both", f, again, true)
+		}
+	}
+	if counted < 500 || reduced < 300 || longer < 300 {
+		t.Error("too few", counted, reduced, longer)
 	}
 }
