@@ -10,40 +10,56 @@ type trimming struct {
 	used []map[int]bool // by which clauses each clause of the proof follows
 }
 
-// again tells by which clauses the clause i follows from those before it that are left.
-func (t *trimming) again(i int) (map[int]bool, bool) {
+// add adds the clause i to what is known.
+func (t *trimming) add(p *propagation, i int) {
+	clause := t.l[i]
+	if t.gone[i] {
+		clause = []int{1, -1} // it keeps its number, and says nothing
+	}
+	p.add(clause)
+	p.settle()
+}
+
+// isUsed tells whether a clause that is left follows by the clause i.
+func (t *trimming) isUsed(k, i int) bool {
+	return !t.gone[k] && t.used[k][len(t.c)+i]
+}
+
+// without tells by which clauses those behind the clause i follow that used it, if all do; the clause i is gone.
+func (t *trimming) without(i int) (map[int]map[int]bool, bool) {
+	last := i
+	for k := i + 1; k < len(t.l); k++ {
+		if t.isUsed(k, i) {
+			last = k
+		}
+	}
+	fresh := map[int]map[int]bool{}
+	if last == i {
+		return fresh, true
+	}
 	p := newPropagation(t.n)
 	for _, clause := range t.c {
 		p.add(clause)
 	}
-	for k, clause := range t.l[:i] {
-		if t.gone[k] {
-			clause = []int{1, -1} // it keeps its number, and says nothing
-		}
-		p.add(clause)
-	}
 	p.settle()
-	if !p.follows(t.l[i]) {
-		return nil, false
+	for k := range last + 1 {
+		if k > i && t.isUsed(k, i) {
+			if !p.follows(t.l[k]) {
+				return nil, false
+			}
+			fresh[k] = p.used()
+			p.undo()
+		}
+		t.add(p, k)
 	}
-	return p.used(), true
+	return fresh, true
 }
 
 // drop leaves the clause i out if what is left is still a proof.
 func (t *trimming) drop(i int) {
 	t.gone[i] = true
-	fresh := map[int]map[int]bool{}
-	for k := i + 1; k < len(t.l); k++ {
-		if t.gone[k] || !t.used[k][len(t.c)+i] {
-			continue
-		}
-		used, is := t.again(k)
-		if !is {
-			t.gone[i] = false
-			return
-		}
-		fresh[k] = used
-	}
+	fresh, is := t.without(i)
+	t.gone[i] = is
 	for k, used := range fresh {
 		t.used[k] = used
 	}

@@ -17,7 +17,7 @@ const (
 const none = -1
 
 // patience is how many conflicts there are at first from one restart to the next one.
-const patience = 60
+const patience = 20
 
 // search looks for a model, and learns a clause from each conflict. A literal l has the place place(l) in lists.
 type search struct {
